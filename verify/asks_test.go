@@ -248,7 +248,7 @@ func TestAskTry(t *testing.T) {
 // before are what stands ahead where all instructions are tried.
 var before = []string{none, env, parts1, parts3, parts8, called, gone, "pred q/0", "pred q/8", none + ", getlis X1", none + ", getlis X1, univoid 1", "pred q/3, try @2, fail, @2", "pred q/3, try @2, fail, @2, trust", "pred q/2, allocate 16", called + ", putlis X0", called + ", putcon a X0", called + ", putcon a X1, putcon a X0"}
 
-// each calls for every instruction but such that go to Labels, and one of these each way.
+// each tells every instruction that may stand in place n; of such with Labels, that go to a place or two, a few.
 func each(o obj.Object, n int, tell func(i code.Instr)) {
 	for op, of := range kinds {
 		rows := []code.Instr{{Op: op}}
@@ -268,7 +268,7 @@ func each(o obj.Object, n int, tell func(i code.Instr)) {
 	}
 }
 
-// choices are which operands of a kind an instruction in place n has in each.
+// choices are which operands of a kind each has an instruction in place n have.
 func choices(o obj.Object, n, op int, kind rune) []int {
 	if op == opSwitch {
 		return []int{noPlace, n + 1}

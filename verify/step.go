@@ -1,6 +1,9 @@
 package verify
 
-import "resolvent/code"
+import (
+	"resolvent/api"
+	"resolvent/code"
+)
 
 // asks tells whether all that an instruction of a predicate's code asks of the State is so.
 func (w *walk) asks(s span, i code.Instr, t State) bool {
@@ -105,7 +108,7 @@ func (w *walk) makes(i code.Instr, t State) State {
 	case code.Allocate:
 		t.Env = a[0]
 	case code.Deallocate:
-		t.Env, t.Y = -1, atEntry(0).Y
+		t.Env, t.Y = -1, [api.MaxY]int{}
 	case code.Call:
 		t.X, t.Neck = 0, false
 	case code.Retry, code.Trust:
