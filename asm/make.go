@@ -41,7 +41,8 @@ func (m *maker) takePred(n int, word string) api.Errno {
 	if !ok {
 		return api.ErrWord
 	}
-	p := &m.object.Preds[m.pred(f)]
+	at := m.pred(f) // ahead of the table, into which it may lay the predicate
+	p := &m.object.Preds[at]
 	if p.Entry != obj.None {
 		return api.ErrTwice
 	}

@@ -106,7 +106,8 @@ func (g *graph) tree(root int) term.Term {
 	for len(rest) > 0 {
 		next := rest[len(rest)-1]
 		rest = rest[:len(rest)-1]
-		n := g.nodes[g.find(next.from)]
+		at := g.find(next.from)
+		n := g.nodes[at]
 		*next.to = term.Term{Kind: n.kind, N: n.n, Name: n.name}
 		if len(n.parts) == 0 {
 			continue
